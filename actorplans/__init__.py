@@ -1,0 +1,1 @@
+"""Actors that plan: each finds its shortest plan by what it believes."""
