@@ -1,6 +1,6 @@
 """The desk that a line of calls is handed to."""
 
-from actorplans.ranges import how_many_numbers
+from actorplans.ranges import has_row, how_many_numbers
 from actorplans.replies import reply
 from actorplans.story import Story
 
@@ -13,7 +13,12 @@ def answers(calls):
     while at < len(calls):
         call = calls[at]
         behind = at + 1 + how_many_numbers(call)
-        answer = reply(story, call, calls[at + 1:behind])
+        numbers = calls[at + 1:behind]
+        if has_row(call):
+            first = behind + 1
+            behind = first + calls[behind]
+            numbers = numbers + calls[first:behind]
+        answer = reply(story, call, numbers)
         answered.append(len(answer))
         answered.extend(answer)
         at = behind

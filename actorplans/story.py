@@ -32,9 +32,13 @@ class Actor:
         self.goal_not = goal_not
         self.belief = 0
 
+    def learn(self, facts, world):
+        """Believe of each of the facts what is so in the world."""
+        self.belief = (self.belief & ~facts) | (world & facts)
+
     def look(self, world):
         """Believe of each seen fact what is so in the world."""
-        self.belief = (self.belief & ~self.sees) | (world & self.sees)
+        self.learn(self.sees, world)
 
     def is_content(self, world):
         """Whether the world has the actor's goal reached."""
@@ -49,6 +53,12 @@ class Story:
         self.world = 0
         self.actors = []
         self.deeds = []
+
+    def set_world(self, world):
+        """This is the world that is now, and all actors look at it."""
+        self.world = world
+        for actor in self.actors:
+            actor.look(world)
 
 
 def holds(world, wanted, unwanted):

@@ -41,6 +41,38 @@ def far(number, start):
     return [7, number, start]
 
 
+def proof(number):
+    return [8, number]
+
+
+def check(number, worlds):
+    return [9, number, len(worlds)] + list(worlds)
+
+
+def follow(number, row):
+    return [10, number, len(row)] + list(row)
+
+
+def turn(number):
+    return [11, number]
+
+
+def rounds(k):
+    return [12, k]
+
+
+def belief(number):
+    return [13, number]
+
+
+def state():
+    return [14]
+
+
+def deeds():
+    return [15]
+
+
 def line(calls):
     """The calls one behind another, held against what a line may have."""
     numbers = [number for call in calls for number in call]
@@ -89,22 +121,17 @@ def counter(number):
     return [deed(number, (1 << k) - 1, 1 << k, 1 << k, (1 << k) - 1) for k in range(6)]
 
 
-def probes(how_many_facts, how_many_actors):
-    """Calls whose answers together show all that calls can show of how things are."""
-    everything = (1 << how_many_facts) - 1
-    numbers = range(how_many_actors)
-    calls = [plan(a) for a in numbers]
-    calls += [far(a, w) for a in numbers for w in range(everything + 2)]
-    for a in list(numbers) + [how_many_actors]:
-        if a == how_many_actors:
-            # One who sees everything shows the world that is, where there is a place for it.
-            calls.append(actor(everything))
-        for f in range(how_many_facts):
-            calls += [goal(a, 1 << f), plan(a), goal(a, 0, 1 << f), plan(a)]
-    calls += [tell(a, f, 0) for a in numbers for f in range(how_many_facts + 1)]
-    calls += [actor()] * 5
-    calls += [deed(0)] * 25
-    return calls
+def counted():
+    """The numbers of the counter's deeds from the empty world up to the full one, if they are the first deeds."""
+    return [(k & -k).bit_length() - 1 for k in range(1, 64)]
+
+
+def probes():
+    """Calls whose answers together show how all things are, and that plans and places for more are the same too."""
+    calls = [state(), deeds()]
+    for number in range(5):
+        calls += [belief(number), plan(number)]
+    return calls + [actor()] * 5 + [deed(0)] * 25 + [state(), deeds()]
 
 
 class LineTest(unittest.TestCase):
@@ -119,21 +146,35 @@ class LineTest(unittest.TestCase):
     def assert_last(self, due, *calls):
         self.assertEqual(last(*calls), due, calls)
 
-    def assert_refused(self, number, before, call, how_many_facts, how_many_actors):
-        """The call is refused with the number alone, and behind it all is as it was."""
-        behind = probes(how_many_facts, how_many_actors)
-        got = ask(*before, call, *behind)
-        self.assertEqual(got[len(before)], [number], call)
-        plain = ask(*before, *behind)
+    def assert_same_behind(self, before, call):
+        """Behind the call all is as it was; gives back what it answers."""
+        got = ask(*before, call, *probes())
+        plain = ask(*before, *probes())
         self.assertEqual(got[len(before) + 1:], plain[len(before):], call)
+        return got[len(before)]
 
-    def assert_range(self, before, call, place, highest, how_many_facts, how_many_actors):
-        """The call's number at the place may be 0 to the highest (-1: none may); any other is refused with -1."""
+    def assert_refused(self, number, before, call):
+        """The call is refused with the number alone, and behind it all is as it was."""
+        self.assertEqual(self.assert_same_behind(before, call), [number], call)
+
+    def assert_range(self, before, call, place, highest, lowest=0):
+        """The call's number at the place may be the lowest to the highest; any other is refused with -1.
+
+        Where the highest is below the lowest, none may be.
+        """
         def with_number(number):
             return call[:place] + [number] + call[place + 1:]
 
-        for number in sorted({0, highest} - {-1}):
-            if number <= highest:
+        for number in sorted({lowest, highest}):
+            if lowest <= number <= highest:
                 self.assertEqual(last(*before, with_number(number))[0], 0, with_number(number))
-        for number in (-BIG, -BIG + 1, -2, -1, highest + 1, highest + 2, 1 << 59, BIG - 1, BIG):
-            self.assert_refused(-1, before, with_number(number), how_many_facts, how_many_actors)
+        for number in (-BIG, -BIG + 1, -2, lowest - 1, highest + 1, highest + 2, 1 << 59, BIG - 1, BIG):
+            self.assert_refused(-1, before, with_number(number))
+
+    def assert_actor_range(self, call):
+        """The call's first number may be each actor that there is, where there are none, one, two and four."""
+        self.assert_range([], call, 1, -1)
+        self.assert_range([facts(6)], call, 1, -1)
+        for how_many in (1, 2, 4):
+            calls = [facts(2), world(1)] + [actor(1, 2)] * how_many
+            self.assert_range(calls, call, 1, how_many - 1)

@@ -43,15 +43,15 @@ class Actor(LineTest):
 
     def test_ranges(self):
         for place in range(1, 4):
-            self.assert_range([facts(2), world(3), actor(1, 2)], actor(), place, 3, 2, 1)
-            self.assert_range([facts(6), world(63)], actor(), place, 63, 6, 0)
-            self.assert_range([facts(1)], actor(), place, 1, 1, 0)
-            self.assert_range([], actor(), place, 0, 0, 0)
+            self.assert_range([facts(2), world(3), actor(1, 2)], actor(), place, 3)
+            self.assert_range([facts(6), world(63)], actor(), place, 63)
+            self.assert_range([facts(1)], actor(), place, 1)
+            self.assert_range([], actor(), place, 0)
 
     def test_told_both_ways(self):
         before = [facts(2), world(3), actor(1, 2), deed(0, 1, 0, 2)]
         for both in (actor(0, 1, 1), actor(3, 3, 2), actor(0, 2, 3), actor(1, 3, 3)):
-            self.assert_refused(-2, before, both, 2, 1)
+            self.assert_refused(-2, before, both)
 
     def test_what_is_seen_may_be_wanted(self):
         self.assert_last([0, 0], facts(2), actor(3, 1, 2))
@@ -60,18 +60,18 @@ class Actor(LineTest):
 
     def test_no_place_for_a_fifth(self):
         before = [facts(2), world(3)] + [actor(k, k) for k in range(4)]
-        self.assert_refused(-5, before, actor(), 2, 4)
-        self.assert_refused(-5, before, actor(3, 1, 2), 2, 4)
+        self.assert_refused(-5, before, actor())
+        self.assert_refused(-5, before, actor(3, 1, 2))
 
     def test_which_refusal_goes_first(self):
         before = [facts(2), world(3)]
         full = before + [actor(k, k) for k in range(4)]
         for out in (actor(4, 1, 1), actor(-1, 3, 3), actor(0, 4, 4), actor(0, 5, 1), actor(0, 1, 5), actor(BIG, 1, 1),
                     actor(-BIG, 2, 2), actor(0, -1, 1), actor(0, 1, -1)):
-            self.assert_refused(-1, before, out, 2, 0)
-            self.assert_refused(-1, full, out, 2, 4)
-        self.assert_refused(-2, full, actor(0, 1, 1), 2, 4)
-        self.assert_refused(-1, full, actor(4), 2, 4)
+            self.assert_refused(-1, before, out)
+            self.assert_refused(-1, full, out)
+        self.assert_refused(-2, full, actor(0, 1, 1))
+        self.assert_refused(-1, full, actor(4))
 
     def test_a_refused_actor_takes_no_number(self):
         self.assert_answers((facts(1), [0]), (actor(0, 1, 1), [-2]), (actor(2), [-1]), (actor(), [0, 0]), (actor(), [0, 1]))

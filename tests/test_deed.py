@@ -16,8 +16,8 @@ class Deed(LineTest):
     def test_24_deeds(self):
         calls = TWO + [deed(k % 2, k % 4) for k in range(24)]
         self.assert_answers(*zip(calls, [[0], [0], [0, 0], [0, 1]] + [[0, k] for k in range(24)]))
-        self.assert_refused(-5, calls, deed(0), 2, 2)
-        self.assert_refused(-5, calls, deed(1, 1, 2, 2, 1), 2, 2)
+        self.assert_refused(-5, calls, deed(0))
+        self.assert_refused(-5, calls, deed(1, 1, 2, 2, 1))
 
     def test_the_24th_deed_is_taken(self):
         calls = TWO + [deed(0)] * 23 + [deed(0, 1, 0, 2)]
@@ -56,22 +56,22 @@ class Deed(LineTest):
 
     def test_ranges(self):
         for place in range(2, 6):
-            self.assert_range(TWO, deed(0), place, 3, 2, 2)
-        self.assert_range(TWO, deed(0), 1, 1, 2, 2)
+            self.assert_range(TWO, deed(0), place, 3)
+        self.assert_range(TWO, deed(0), 1, 1)
         six = [facts(6), actor()]
         for place in range(2, 6):
-            self.assert_range(six, deed(0), place, 63, 6, 1)
+            self.assert_range(six, deed(0), place, 63)
 
     def test_no_actor_and_no_facts(self):
-        self.assert_range([facts(1)], deed(0), 1, -1, 1, 0)
-        self.assert_range([], deed(0), 1, -1, 0, 0)
+        self.assert_range([facts(1)], deed(0), 1, -1)
+        self.assert_range([], deed(0), 1, -1)
         for place in range(2, 6):
-            self.assert_range([actor()], deed(0), place, 0, 0, 1)
+            self.assert_range([actor()], deed(0), place, 0)
 
     def test_told_both_ways(self):
         for both in (deed(0, 1, 1), deed(1, 3, 2), deed(0, 2, 3), deed(1, 3, 3), deed(0, 0, 0, 1, 1),
                      deed(0, 0, 0, 3, 1), deed(1, 0, 0, 2, 3), deed(0, 1, 1, 2, 2), deed(0, 1, 2, 3, 3)):
-            self.assert_refused(-2, TWO, both, 2, 2)
+            self.assert_refused(-2, TWO, both)
 
     def test_not_told_both_ways(self):
         for fine in (deed(0, 1, 2, 1, 2), deed(0, 1, 2, 2, 1), deed(0, 3, 0, 3, 0), deed(0, 3, 0, 0, 3), deed(0, 0, 3, 0, 3)):
@@ -80,15 +80,15 @@ class Deed(LineTest):
     def test_range_goes_before_both_ways(self):
         for out in (deed(2, 1, 1), deed(-1, 0, 0, 1, 1), deed(0, 4, 4), deed(0, 1, 1, 4), deed(0, 1, 1, 0, -1),
                     deed(BIG, 3, 3, 3, 3), deed(0, -1, 1), deed(0, 0, -BIG, 1, 1)):
-            self.assert_refused(-1, TWO, out, 2, 2)
+            self.assert_refused(-1, TWO, out)
 
     def test_both_go_before_place(self):
         full = TWO + [deed(0)] * 24
-        self.assert_refused(-2, full, deed(0, 1, 1), 2, 2)
-        self.assert_refused(-2, full, deed(1, 0, 0, 2, 2), 2, 2)
-        self.assert_refused(-1, full, deed(2), 2, 2)
-        self.assert_refused(-1, full, deed(0, 4), 2, 2)
-        self.assert_refused(-1, full, deed(-1, 1, 1, 2, 2), 2, 2)
+        self.assert_refused(-2, full, deed(0, 1, 1))
+        self.assert_refused(-2, full, deed(1, 0, 0, 2, 2))
+        self.assert_refused(-1, full, deed(2))
+        self.assert_refused(-1, full, deed(0, 4))
+        self.assert_refused(-1, full, deed(-1, 1, 1, 2, 2))
 
     def test_a_refused_deed_takes_no_number(self):
         self.assert_answers(*zip(

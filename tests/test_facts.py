@@ -39,19 +39,19 @@ class Facts(LineTest):
             self.assertEqual(last(*before, facts(n), actor(3, 0, 3), plan(0)), [0, 1])
 
     def test_range(self):
-        self.assert_range([], facts(0), 1, 6, 0, 0)
-        self.assert_range([facts(3), world(5)], facts(0), 1, 6, 3, 0)
+        self.assert_range([], facts(0), 1, 6)
+        self.assert_range([facts(3), world(5)], facts(0), 1, 6)
 
     def test_not_where_there_is_an_actor(self):
         before = [facts(2), world(3), actor(1, 2)]
         for n in range(7):
-            self.assert_refused(-3, before, facts(n), 2, 1)
-            self.assert_refused(-3, before + [deed(0, 0, 0, 2)], facts(n), 2, 1)
+            self.assert_refused(-3, before, facts(n))
+            self.assert_refused(-3, before + [deed(0, 0, 0, 2)], facts(n))
 
     def test_range_goes_before_time(self):
         before = [facts(2), world(3), actor(1, 2)]
         for n in (-BIG, -1, 7, BIG):
-            self.assert_refused(-1, before, facts(n), 2, 1)
+            self.assert_refused(-1, before, facts(n))
 
     def test_a_refused_actor_is_none(self):
         self.assertEqual(ask(facts(1), actor(2), actor(0, 1, 1), facts(2)), [[0], [-1], [-2], [0]])

@@ -54,10 +54,10 @@ class Far(LineTest):
 
     def test_ranges(self):
         before = [facts(2), world(1), actor(1, 2), actor(3, 0, 1), deed(0, 1, 0, 2)]
-        self.assert_range(before, far(0, 1), 1, 1, 2, 2)
-        self.assert_range(before, far(0, 1), 2, 3, 2, 2)
-        self.assert_range([facts(6), actor()], far(0, 0), 2, 63, 6, 1)
-        self.assert_range([actor()], far(0, 0), 2, 0, 0, 1)
-        self.assert_range([facts(1)], far(0, 0), 1, -1, 1, 0)
+        self.assert_range(before, far(0, 1), 1, 1)
+        self.assert_range(before, far(0, 1), 2, 3)
+        self.assert_range([facts(6), actor()], far(0, 0), 2, 63)
+        self.assert_range([actor()], far(0, 0), 2, 0)
+        self.assert_range([facts(1)], far(0, 0), 1, -1)
         for out in (far(2, 4), far(-1, -1), far(BIG, BIG), far(-BIG, -BIG)):
-            self.assert_refused(-1, before, out, 2, 2)
+            self.assert_refused(-1, before, out)

@@ -33,19 +33,19 @@ class Goal(LineTest):
         self.assert_last([0, 1], *calls, plan(0))
 
     def test_ranges(self):
-        self.assert_range(BEFORE, goal(0), 1, 1, 2, 2)
+        self.assert_range(BEFORE, goal(0), 1, 1)
         for place in (2, 3):
-            self.assert_range(BEFORE, goal(1), place, 3, 2, 2)
-            self.assert_range([facts(6), actor()], goal(0), place, 63, 6, 1)
-            self.assert_range([actor()], goal(0), place, 0, 0, 1)
-        self.assert_range([facts(2)], goal(0), 1, -1, 2, 0)
+            self.assert_range(BEFORE, goal(1), place, 3)
+            self.assert_range([facts(6), actor()], goal(0), place, 63)
+            self.assert_range([actor()], goal(0), place, 0)
+        self.assert_range([facts(2)], goal(0), 1, -1)
 
     def test_told_both_ways(self):
         for number in (0, 1):
             for both in (goal(number, 1, 1), goal(number, 3, 1), goal(number, 2, 3), goal(number, 3, 3)):
-                self.assert_refused(-2, BEFORE, both, 2, 2)
+                self.assert_refused(-2, BEFORE, both)
 
     def test_range_goes_before_both_ways(self):
         for out in (goal(2, 1, 1), goal(-1, 1, 1), goal(0, 4, 4), goal(0, 5, 1), goal(0, 1, 5), goal(0, -1, 1),
                     goal(0, 1, -1), goal(BIG, 3, 3), goal(0, BIG, BIG), goal(0, -BIG, -BIG)):
-            self.assert_refused(-1, BEFORE, out, 2, 2)
+            self.assert_refused(-1, BEFORE, out)

@@ -125,6 +125,46 @@ class Language(unittest.TestCase):
             if isinstance(node, ast.Name) and node.id in BUILT_IN:
                 self.assertIn(node.id, OWN_NAMES, path)
 
+    def test_names_of_a_file_stand_once(self):
+        for path, tree in trees():
+            top = [name for part in tree.body for name in bound(part)]
+            top += [name for part in tree.body for target in getattr(part, "targets", []) for name in bound(target)]
+            self.assertEqual(len(top), len(set(top)), path)
+            kept = {name for part in tree.body if isinstance(part, (ast.ClassDef, ast.ImportFrom)) for name in bound(part)}
+            for function in [node for node in ast.walk(tree) if isinstance(node, ast.FunctionDef)]:
+                inside = [name for node in ast.walk(function) if isinstance(node, (ast.Name, ast.arg)) for name in bound(node)]
+                self.assertEqual(kept & set(inside), set(), (path, function.name))
+
+    def test_no_two_files_draw_from_one_another(self):
+        drawn = {
+            "actorplans." + path.stem: {node.module for node in ast.walk(tree) if isinstance(node, ast.ImportFrom)}
+            for path, tree in trees()
+        }
+        while drawn:
+            free = [name for name, others in drawn.items() if not others & set(drawn)]
+            self.assertNotEqual(free, [], drawn)
+            drawn = {name: others for name, others in drawn.items() if name not in free}
+
+    def test_lists_of_a_files_top_are_only_read(self):
+        for path, tree in trees():
+            top = {target.id for part in tree.body if isinstance(part, ast.Assign) for target in part.targets
+                   if isinstance(part.value, (ast.List, ast.Dict))}
+            for part in tree.body:
+                if isinstance(part, ast.Assign) and isinstance(part.value, (ast.List, ast.Dict)):
+                    within = [node for node in ast.walk(part.value) if isinstance(node, (ast.List, ast.Dict))]
+                    self.assertEqual(len(within), 1, (path, part.lineno))
+            for node in ast.walk(tree):
+                if isinstance(node, ast.Subscript) and isinstance(node.value, ast.Name) and node.value.id in top:
+                    self.assertIsInstance(node.ctx, ast.Load, (path, node.lineno))
+                if isinstance(node, ast.Attribute) and isinstance(node.value, ast.Name) and node.value.id in top:
+                    self.assertIn(node.attr, ("get", "items", "keys", "values"), (path, node.lineno))
+
+    def test_sets_are_not_kept(self):
+        for path, node in nodes():
+            self.assertNotIsInstance(node, ast.Set, path)
+            if isinstance(node, ast.Name):
+                self.assertNotIn(node.id, ("set", "frozenset"), path)
+
     def test_methods(self):
         own = {part.name for path, node in nodes() if isinstance(node, ast.ClassDef) for part in node.body
                if isinstance(part, ast.FunctionDef)}

@@ -47,7 +47,7 @@ class World(LineTest):
         self.assert_last([0, 0], facts(1), actor(1), goal(0, 0, 1), world(1), plan(0))
 
     def test_range(self):
-        self.assert_range([facts(2), world(1), actor(1), actor(3), tell(0, 1, 1)], world(0), 1, 3, 2, 2)
-        self.assert_range([facts(6), world(33), actor(62)], world(0), 1, 63, 6, 1)
-        self.assert_range([], world(0), 1, 0, 0, 0)
-        self.assert_range([actor()], world(0), 1, 0, 0, 1)
+        self.assert_range([facts(2), world(1), actor(1), actor(3), tell(0, 1, 1)], world(0), 1, 3)
+        self.assert_range([facts(6), world(33), actor(62)], world(0), 1, 63)
+        self.assert_range([], world(0), 1, 0)
+        self.assert_range([actor()], world(0), 1, 0)
